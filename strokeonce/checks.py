@@ -4,7 +4,7 @@ A wrong value is never put into a message: Python refuses to write out very
 long integers, and would raise an error of its own instead of the named one.
 """
 
-from strokeonce.errors import BadBook, BadNumber, BadPlace
+from strokeonce.errors import BadBook, BadNumber, BadPlace, BadWord
 
 MOST_LETTERS = 8
 MOST_PARTS = 40
@@ -57,6 +57,22 @@ def check_book(value):
 def check_age(value, most=MOST_AGE):
     if not is_integer(value) or not 0 <= value <= most:
         raise BadNumber("an age must be an integer from 0 to its limit")
+
+
+def check_book_and_age(book, age, most=MOST_AGE):
+    check_book(book)
+    check_age(age, most)
+
+
+def check_heading(value):
+    if not is_integer(value) or not 0 <= value <= 3:
+        raise BadNumber("a heading must be an integer from 0 to 3")
+
+
+def check_word(value, many):
+    """A word of so many letters."""
+    if not is_word(value, many):
+        raise BadWord("a word must be one of the book's letters")
 
 
 def is_coordinate(value):

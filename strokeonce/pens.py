@@ -1,11 +1,11 @@
 """The words of the ages, and the strokes that a pen draws for them."""
 
 from strokeonce.books import letters_in, next_letters
-from strokeonce.checks import check_age, check_book
+from strokeonce.checks import check_book_and_age
 from strokeonce.errors import TooMany
+from strokeonce.paths import end_of_stroke, lay_strokes
 
 MOST_GROWN = 60000
-STEPS = ((1, 0), (0, 1), (-1, 0), (0, -1))
 
 
 def count_letters(word, many):
@@ -59,8 +59,7 @@ def replace_letters(word, grown):
 
 def word_at(book, age):
     """The word of an age."""
-    check_book(book)
-    check_age(age)
+    check_book_and_age(book, age)
     words, start = book
     check_size(words, start, age)
     # From the last age back to the first: what a letter grows to is put
@@ -75,25 +74,7 @@ def word_at(book, age):
 
 def draw(word):
     """The strokes that a pen draws for a word, from (0, 0) with the heading 0."""
-    x = 0
-    y = 0
-    heading = 0
-    begun = []
-    strokes = []
-    for part in word:
-        if part == "+":
-            heading = (heading + 1) % 4
-        elif part == "-":
-            heading = (heading - 1) % 4
-        elif part == "[":
-            begun.append((x, y, heading))
-        elif part == "]":
-            x, y, heading = begun.pop()
-        else:
-            strokes.append((x, y, heading, part))
-            right, up = STEPS[heading]
-            x += right
-            y += up
+    strokes, _ = lay_strokes(word)
     return tuple(strokes)
 
 
@@ -104,10 +85,8 @@ def drawing(book, age):
 
 def ends_of(stroke):
     """The two places between which a stroke lies, in one order for both ways."""
-    x, y, heading, _ = stroke
-    right, up = STEPS[heading]
-    begin = (x, y)
-    end = (x + right, y + up)
+    begin = stroke[:2]
+    end = end_of_stroke(stroke)
     return min(begin, end), max(begin, end)
 
 

@@ -2,9 +2,14 @@
 
 import random
 
+from strokeonce.books import first_ages
+
 DRAGON = (((0, "+", 1, "-"), ("+", 0, "-", 1)), (0,))
 LEVY = (((0, "+", 0, "-"),), (0,))
 PLANT = (((0, "[", "+", 0, "]", 0),), (0,))
+LINE = (((0, 0),), (0,))
+FIVE = (((0, "+", 0, "-", 0, "-", 0, "+", 0),), (0,))
+FARTHEST = 10 ** 400
 
 # Each is a value of a kind that may be passed for any argument, and no book.
 OTHER_VALUES = (
@@ -58,25 +63,39 @@ def plain_word(book, age):
     return word
 
 
-def plain_strokes(word):
-    """The strokes of a word, each branch drawn by a call of its own."""
+def plain_walk(word):
+    """The strokes of a word and the pen at its end, each branch drawn by a call of its own."""
     strokes = []
 
     def draw(index, x, y, heading):
         while index < len(word) and word[index] != "]":
             part = word[index]
             if part == "[":
-                index = draw(index + 1, x, y, heading)
+                index, _ = draw(index + 1, x, y, heading)
             elif part in ("+", "-"):
                 heading = (heading + (1 if part == "+" else 3)) % 4
             else:
                 strokes.append((x, y, heading, part))
                 x, y = step(x, y, heading)
             index += 1
-        return index
+        return index, (x, y, heading)
 
-    draw(0, 0, 0, 0)
-    return tuple(strokes)
+    _, pen = draw(0, 0, 0, 0)
+    return tuple(strokes), pen
+
+
+def plain_strokes(word):
+    return plain_walk(word)[0]
+
+
+def trunk(word):
+    """A word with its branches left out."""
+    text = list(word)
+    while "]" in text:
+        end = text.index("]")
+        begin = max([index for index in range(end) if text[index] == "["])
+        text[begin:end + 1] = []
+    return tuple(text)
 
 
 def step(x, y, heading):
@@ -94,3 +113,107 @@ def plain_twice(strokes):
 
 def sides(stroke):
     return {stroke[:2], step(*stroke[:3])}
+
+
+def end(stroke):
+    return step(*stroke[:3])
+
+
+def times(place, other):
+    """The product of two places as complex numbers."""
+    (x, y), (u, v) = place, other
+    return x * u - y * v, x * v + y * u
+
+
+def turned(place, quarters):
+    return times(place, ((1, 0), (0, 1), (-1, 0), (0, -1))[quarters % 4])
+
+
+def moved(strokes, place, heading):
+    """Strokes drawn from a place with a heading instead of from (0, 0) with 0."""
+    found = []
+    for x, y, own, letter in strokes:
+        across, up = turned((x, y), heading)
+        found.append((place[0] + across, place[1] + up, (own + heading) % 4, letter))
+    return found
+
+
+def plain_pair(first, second):
+    x, y = turned((second[0] - first[0], second[1] - first[1]), -first[2])
+    return (x, y, first[3], (second[2] - first[2]) % 4, second[3])
+
+
+def plain_multiple(book):
+    """Where the words of all letters that come end; they must be one place."""
+    [pen] = {plain_walk(book[0][letter])[1] for letter, _ in first_ages(book)}
+    assert pen[2] == 0
+    return pen[:2]
+
+
+def plain_farness(words, letters, norm):
+    """The farness by its words: reach, its root, and the least number."""
+    ends = [end(stroke) for letter in letters for stroke in plain_strokes(words[letter])]
+    reach = max([x * x + y * y for x, y in ends])
+    root = 0
+    while root * root < reach:
+        root += 1
+    far = 2
+    while not norm * far * far > (far + 2 * root) * (far + 2 * root):
+        far += 1
+    return far
+
+
+def book_farness(book):
+    u, v = plain_multiple(book)
+    return plain_farness(book[0], [letter for letter, _ in first_ages(book)], u * u + v * v)
+
+
+def near_pairs(strokes, far):
+    return {plain_pair(first, second) for j, second in enumerate(strokes) for first in strokes[:j]
+            if (first[0] - second[0]) ** 2 + (first[1] - second[1]) ** 2 <= far * far}
+
+
+def even_shapes(most):
+    """All words of one letter, of so many parts at most, that end with heading 0, by where they end."""
+    shapes = {}
+
+    def add(word, depth):
+        if depth == 0 and 0 in word:
+            x, y, heading = plain_walk(word)[1]
+            if heading == 0 and x * x + y * y >= 2:
+                shapes.setdefault((x, y), []).append(word)
+        if len(word) < most:
+            for part in (0, "+", "-", "["):
+                add(word + (part,), depth + (part == "["))
+            if depth:
+                add(word + ("]",), depth - 1)
+
+    add((), 0)
+    return shapes
+
+
+def even_books(number, seed=11, most=6):
+    """Even books of 1 to 3 letters, with branches now and then, and multiples of all directions."""
+    source = random.Random(seed)
+    shapes = even_shapes(most)
+    starts = [word for words in shapes.values() for word in words]
+    books = []
+    for _ in range(number):
+        many = source.randint(1, 3)
+        picked = [source.choice(shapes[source.choice(sorted(shapes))])]
+        place = plain_walk(picked[0])[1][:2]
+        picked += [source.choice(shapes[place]) for _ in range(many - 1)] + [source.choice(starts)]
+        named = [tuple([part if part else source.randrange(many) for part in word]) for word in picked]
+        books.append((tuple(named[:-1]), named[-1]))
+    return books
+
+
+def drawable(book, most):
+    """The strokes of each age, as long as there are no more than so many."""
+    words, word = book
+    while True:
+        strokes = plain_strokes(word)
+        if len(strokes) > most:
+            return
+        yield strokes
+        word = plain_word((words, word), 1)

@@ -4,9 +4,12 @@ import copy
 import unittest
 
 from samples import OTHER_VALUES, chain, plain_word, random_books
+from strokeonce.ages import area_at, end_at, stroke, strokes_in, turns_at
 from strokeonce.books import first_ages
 from strokeonce.errors import BadBook
+from strokeonce.evens import is_steady, multiple
 from strokeonce.pens import drawing, drawn_twice, word_at
+from strokeonce.windows import box, strokes_at, window
 
 # The arguments behind the book are right ones.
 TAKING_A_BOOK = (
@@ -14,6 +17,16 @@ TAKING_A_BOOK = (
     lambda book: word_at(book, 0),
     lambda book: drawing(book, 0),
     lambda book: drawn_twice(book, 0),
+    lambda book: strokes_in(book, 0),
+    lambda book: end_at(book, 0),
+    lambda book: turns_at(book, 0),
+    lambda book: area_at(book, 0),
+    lambda book: stroke(book, 0, 0),
+    lambda book: box(book, 0),
+    lambda book: window(book, 0, (0, 0), (0, 0)),
+    lambda book: strokes_at(book, 0, (0, 0)),
+    is_steady,
+    multiple,
 )
 
 # No words of two letters, for the reason that is told.

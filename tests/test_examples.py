@@ -17,9 +17,32 @@ PENS = '''
 [(0, '+', 0, '-', '+', 0, '+', 0, '-', '-'), ((0, 0, 0, 0), (1, 0, 1, 0)), (0, 1)]
 '''
 
+AGES = '''
+>>> from strokeonce.ages import area_at, end_at, stroke, strokes_in, turns_at
+>>> book = (((0, "+", 0, "-"),), (0,))
+>>> [strokes_in(book, 100), end_at(book, 6), turns_at(book, 50), area_at(book, 2), stroke(book, 200, 2 ** 199)[2:]]
+[1267650600228229401496703205376, (0, -8, 0), 0, 4, (1, 0)]
+'''
+
+WINDOWS = '''
+>>> from strokeonce.windows import box, strokes_at, window
+>>> book, dragon = (((0, "+", 0, "-"),), (0,)), (((0, "+", 1, "-"), ("+", 0, "-", 1)), (0,))
+>>> [box(book, 2), window(book, 2, (0, 0), (0, 1)), strokes_at(dragon, 60, (0, 0))[0]]
+[(0, 0, 1, 2), ((0, 0, 0, 0, 0),), 0]
+'''
+
+EVENS = '''
+>>> from strokeonce.evens import is_steady, multiple
+>>> [multiple((((0, "+", 0, "-"),), (0,))), is_steady((((0, "+", 0),), (0,))), multiple((((0, 0), (1,)), (0, 1)))]
+[(1, 1), False, None]
+'''
+
 INTERFACE = {
     "strokeonce.books": ("first_ages",),
     "strokeonce.pens": ("word_at", "drawing", "drawn_twice"),
+    "strokeonce.ages": ("strokes_in", "turns_at", "area_at", "end_at", "stroke"),
+    "strokeonce.windows": ("box", "window", "strokes_at"),
+    "strokeonce.evens": ("is_steady", "multiple"),
 }
 
 
@@ -36,6 +59,15 @@ class Examples(unittest.TestCase):
 
     def test_pens(self):
         self.check(PENS, 3)
+
+    def test_ages(self):
+        self.check(AGES, 3)
+
+    def test_windows(self):
+        self.check(WINDOWS, 3)
+
+    def test_evens(self):
+        self.check(EVENS, 2)
 
 
 class Names(unittest.TestCase):

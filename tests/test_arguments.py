@@ -1,0 +1,112 @@
+"""Point 1: wrong values for each argument of each function, their order, and that none is modified."""
+
+import copy
+import unittest
+
+from samples import FARTHEST, LEVY, LINE, OTHER_VALUES
+from strokeonce import ages, books, evens, pens, windows
+from strokeonce.errors import BadBook, BadNumber, BadPlace, StrokeError
+
+# The arguments of each function. Behind an age its limit stands.
+CALLS = {
+    books.first_ages: ("book",),
+    pens.word_at: ("book", "age 1000"),
+    pens.drawing: ("book", "age 1000"),
+    pens.drawn_twice: ("book", "age 1000"),
+    ages.strokes_in: ("book", "age 1000"),
+    ages.end_at: ("book", "age 1000"),
+    ages.turns_at: ("book", "age 1000"),
+    ages.area_at: ("book", "age 1000"),
+    ages.stroke: ("book", "age 1000", "number"),
+    windows.box: ("book", "age 400"),
+    windows.window: ("book", "age 400", "place", "place"),
+    windows.strokes_at: ("book", "age 400", "place"),
+    evens.is_steady: ("book",),
+    evens.multiple: ("book",),
+}
+
+NO_NUMBERS = (-1, -10 ** 5000, 10 ** 5000, True, False, None, "", "0", "1", (), (0,), [], [0], {}, {0: 0}, ((0,), (0,)))
+
+NO_PLACES = OTHER_VALUES + (
+    (0, 0, 0), ((0, 0),), [0, 0], "00", (0, None), (None, 0), (True, 0), (0, False), ("0", 0), (0, "0"),
+    (0, (0,)), ([0], 0), (0, {}), (FARTHEST + 1, 0), (0, FARTHEST + 1), (-FARTHEST - 1, 0), (0, -FARTHEST - 1),
+    LEVY)
+
+# For each kind of argument right values, wrong ones, and the error for these.
+KINDS = {
+    "book": ((LINE, (((0, 0), (1,)), (0, "+", 0))), OTHER_VALUES + ((((0,),), ()), (((0, "["),), (0,))), BadBook),
+    "age 1000": ((0, 2), NO_NUMBERS + (1001,), BadNumber),
+    "age 400": ((0, 2), NO_NUMBERS + (401, 1000), BadNumber),
+    "number": ((0,), NO_NUMBERS, BadNumber),
+    "place": (((0, 0), (FARTHEST, -FARTHEST)), NO_PLACES, BadPlace),
+}
+
+
+def right_values(call):
+    return [KINDS[kind][0][0] for kind in CALLS[call]]
+
+
+class WrongValues(unittest.TestCase):
+
+    def expect(self, call, arguments, error):
+        with self.assertRaises(StrokeError) as caught:
+            call(*arguments)
+        self.assertIs(error, type(caught.exception), call.__name__)
+
+    def test_right_values_are_answered(self):
+        for call, kinds in CALLS.items():
+            for index, kind in enumerate(kinds):
+                for value in KINDS[kind][0]:
+                    arguments = right_values(call)
+                    arguments[index] = value
+                    call(*arguments)
+
+    def test_each_argument_alone(self):
+        for call, kinds in CALLS.items():
+            for index, kind in enumerate(kinds):
+                _, values, error = KINDS[kind]
+                for value in values:
+                    arguments = right_values(call)
+                    arguments[index] = value
+                    self.expect(call, arguments, error)
+
+    def test_the_leftmost_of_several(self):
+        for call, kinds in CALLS.items():
+            for index, kind in enumerate(kinds):
+                for shift in range(12):
+                    arguments = right_values(call)
+                    for later in range(index, len(kinds)):
+                        values = KINDS[kinds[later]][1]
+                        arguments[later] = values[(5 * later + shift) % len(values)]
+                    self.expect(call, arguments, KINDS[kind][2])
+
+    def test_values_of_all_kinds_for_all_arguments(self):
+        for call, kinds in CALLS.items():
+            for first in OTHER_VALUES:
+                for second in OTHER_VALUES:
+                    self.expect(call, [first] + [second] * (len(kinds) - 1), BadBook)
+
+
+class NotModified(unittest.TestCase):
+
+    def test_arguments_stay_as_they_are(self):
+        values = (LEVY, 2, (0, 0), (0,), [0], [[0], {}], {0: [1]}, ([0], [1]), ((0, [1]),), ([[0]], [0]))
+        for call, kinds in CALLS.items():
+            for first in values:
+                for second in values:
+                    arguments = [first] + [second] * (len(kinds) - 1)
+                    kept = copy.deepcopy(arguments)
+                    try:
+                        call(*arguments)
+                    except StrokeError:
+                        pass
+                    self.assertEqual(arguments, kept)
+
+    def test_asked_again_they_answer_the_same(self):
+        for call in CALLS:
+            arguments = right_values(call)
+            self.assertEqual(call(*arguments), call(*arguments))
+
+
+if __name__ == "__main__":
+    unittest.main()
