@@ -40,10 +40,12 @@ def move_box(box, x, y, heading):
 
 
 def box_of(word, ends, boxes):
-    """(least x, least y, greatest x, greatest y) of a word's path, (0, 0) among its places."""
+    """(least x, least y, greatest x, greatest y) of a word's path.
+
+    (0, 0) is among its places, as the path of its first letter begins there.
+    """
     laid, _ = lay(word, ends)
-    moved = [(0, 0, 0, 0)]
-    moved.extend([move_box(boxes[letter], x, y, heading) for x, y, heading, letter in laid])
+    moved = [move_box(boxes[letter], x, y, heading) for x, y, heading, letter in laid]
     return (min([box[0] for box in moved]), min([box[1] for box in moved]),
             max([box[2] for box in moved]), max([box[3] for box in moved]))
 

@@ -217,3 +217,17 @@ def drawable(book, most):
             return
         yield strokes
         word = plain_word((words, word), 1)
+
+
+def long_books():
+    """Even books of several letters with words of 40 parts, that go their way by many turns."""
+    source = random.Random(14)
+    books = []
+    for many, place in ((2, (4, 2)), (3, (3, 1)), (8, (7, 5)), (8, (8, 8))):
+        words = []
+        while len(words) < many:
+            word = [source.choice((0, 0, "+", "-")) for _ in range(40)]
+            if plain_walk(word)[1] == (*place, 0):
+                words.append(tuple([source.randrange(many) if part == 0 else part for part in word]))
+        books.append((tuple(words), words[0]))
+    return books

@@ -4,8 +4,8 @@ import copy
 import unittest
 
 from samples import FARTHEST, LEVY, LINE, OTHER_VALUES
-from strokeonce import ages, books, evens, pens, windows
-from strokeonce.errors import BadBook, BadNumber, BadPlace, StrokeError
+from strokeonce import ages, books, counts, evens, finds, pens, sides, webs, windows
+from strokeonce.errors import BadBook, BadNumber, BadPlace, BadWord, NotEven, StrokeError
 
 # The arguments of each function. Behind an age its limit stands.
 CALLS = {
@@ -23,7 +23,24 @@ CALLS = {
     windows.strokes_at: ("book", "age 400", "place"),
     evens.is_steady: ("book",),
     evens.multiple: ("book",),
+    webs.web: ("book",),
+    webs.never_twice: ("book",),
+    webs.never_meets: ("book",),
+    webs.twice_age: ("book",),
+    webs.meeting_age: ("book",),
+    webs.shows_never_twice: ("book", "value"),
+    finds.first_twice: ("book",),
+    finds.first_meeting: ("book",),
+    counts.twice_pairs: ("book", "age 300"),
+    counts.meeting_pairs: ("book", "age 300"),
+    sides.share_age: ("book", "word", "place", "heading"),
+    sides.touch_age: ("book", "word", "place", "heading"),
+    sides.never_share: ("book", "word", "place", "heading"),
 }
+
+# Those that are for even books alone.
+FOR_EVEN_BOOKS = tuple([call for call in CALLS if call.__module__[11:] in ("webs", "finds", "counts", "sides")])
+UNEVEN = (((0, "+", 0),), (0,))
 
 NO_NUMBERS = (-1, -10 ** 5000, 10 ** 5000, True, False, None, "", "0", "1", (), (0,), [], [0], {}, {0: 0}, ((0,), (0,)))
 
@@ -32,12 +49,21 @@ NO_PLACES = OTHER_VALUES + (
     (0, (0,)), ([0], 0), (0, {}), (FARTHEST + 1, 0), (0, FARTHEST + 1), (-FARTHEST - 1, 0), (0, -FARTHEST - 1),
     LEVY)
 
+# The letter 9 is none of a book of fewer.
+NO_WORDS = tuple([value for value in OTHER_VALUES if value != (0,)]) + (
+    (9,), (-1,), (True,), (0, False), (0, None), (0, "a"), (0, "["), ("]", 0, "["), (0, "]"), ("+",), ("[", "]"),
+    (0,) * 41, [0], (0, (0,)), (0, [0]), (0, {}), (10 ** 5000,), "0")
+
 # For each kind of argument right values, wrong ones, and the error for these.
 KINDS = {
     "book": ((LINE, (((0, 0), (1,)), (0, "+", 0))), OTHER_VALUES + ((((0,),), ()), (((0, "["),), (0,))), BadBook),
     "age 1000": ((0, 2), NO_NUMBERS + (1001,), BadNumber),
     "age 400": ((0, 2), NO_NUMBERS + (401, 1000), BadNumber),
+    "age 300": ((0, 2, 300), NO_NUMBERS + (301, 400), BadNumber),
     "number": ((0,), NO_NUMBERS, BadNumber),
+    "heading": ((0, 1, 2, 3), NO_NUMBERS + (4, 5), BadNumber),
+    "word": (((0,), ("[", "-", 0, "]", 0)), NO_WORDS, BadWord),
+    "value": (OTHER_VALUES, (), None),
     "place": (((0, 0), (FARTHEST, -FARTHEST)), NO_PLACES, BadPlace),
 }
 
@@ -76,9 +102,21 @@ class WrongValues(unittest.TestCase):
                 for shift in range(12):
                     arguments = right_values(call)
                     for later in range(index, len(kinds)):
-                        values = KINDS[kinds[later]][1]
+                        values = KINDS[kinds[later]][1] or OTHER_VALUES
                         arguments[later] = values[(5 * later + shift) % len(values)]
-                    self.expect(call, arguments, KINDS[kind][2])
+                    if KINDS[kind][1]:
+                        self.expect(call, arguments, KINDS[kind][2])
+
+    def test_not_even_comes_behind_all_arguments(self):
+        for call in FOR_EVEN_BOOKS:
+            kinds = CALLS[call]
+            self.expect(call, [UNEVEN] + right_values(call)[1:], NotEven)
+            for index in range(1, len(kinds)):
+                _, values, error = KINDS[kinds[index]]
+                for value in values:
+                    arguments = [UNEVEN] + right_values(call)[1:]
+                    arguments[index] = value
+                    self.expect(call, arguments, error)
 
     def test_values_of_all_kinds_for_all_arguments(self):
         for call, kinds in CALLS.items():

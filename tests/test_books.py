@@ -6,9 +6,13 @@ import unittest
 from samples import OTHER_VALUES, chain, plain_word, random_books
 from strokeonce.ages import area_at, end_at, stroke, strokes_in, turns_at
 from strokeonce.books import first_ages
-from strokeonce.errors import BadBook
+from strokeonce.counts import meeting_pairs, twice_pairs
+from strokeonce.errors import BadBook, NotEven
 from strokeonce.evens import is_steady, multiple
+from strokeonce.finds import first_meeting, first_twice
 from strokeonce.pens import drawing, drawn_twice, word_at
+from strokeonce.sides import never_share, share_age, touch_age
+from strokeonce.webs import (meeting_age, never_meets, never_twice, shows_never_twice, twice_age, web)
 from strokeonce.windows import box, strokes_at, window
 
 # The arguments behind the book are right ones.
@@ -27,6 +31,19 @@ TAKING_A_BOOK = (
     lambda book: strokes_at(book, 0, (0, 0)),
     is_steady,
     multiple,
+    web,
+    never_twice,
+    never_meets,
+    twice_age,
+    meeting_age,
+    lambda book: shows_never_twice(book, ()),
+    first_twice,
+    first_meeting,
+    lambda book: twice_pairs(book, 0),
+    lambda book: meeting_pairs(book, 0),
+    lambda book: share_age(book, (0,), (0, 0), 0),
+    lambda book: touch_age(book, (0,), (0, 0), 0),
+    lambda book: never_share(book, (0,), (0, 0), 0),
 )
 
 # No words of two letters, for the reason that is told.
@@ -79,6 +96,8 @@ def letter_of(call, value):
         call(value)
     except BadBook as error:
         return [error.letter]
+    except NotEven:
+        pass
     return []
 
 

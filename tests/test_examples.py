@@ -37,12 +37,45 @@ EVENS = '''
 [(1, 1), False, None]
 '''
 
+WEBS = '''
+>>> from strokeonce.webs import never_twice, shows_never_twice, web
+>>> dragon = (((0, "+", 1, "-"), ("+", 0, "-", 1)), (0,))
+>>> pairs = tuple([row[:5] for row in web(dragon)])
+>>> [never_twice(dragon), shows_never_twice(dragon, pairs), never_twice((((0, "+", 0, "-"),), (0,)))]
+[True, True, False]
+'''
+
+FINDS = '''
+>>> from strokeonce.finds import first_meeting, first_twice
+>>> square = (((0, 0),), (0, "+", 0, "+", 0, "+", 0))
+>>> [first_twice(square), first_meeting(square)]
+[None, (0, 0, 3)]
+'''
+
+COUNTS = '''
+>>> from strokeonce.counts import meeting_pairs, twice_pairs
+>>> book = (((0, 0),), (0, "+", "+", 0))
+>>> [twice_pairs(book, 0), twice_pairs(book, 3), meeting_pairs(book, 2)]
+[1, 8, 3]
+'''
+
+SIDES = '''
+>>> from strokeonce.sides import never_share, share_age, touch_age
+>>> line = (((0, 0),), (0,))
+>>> [share_age(line, (0,), (0, 0), 0), touch_age(line, (0,), (1, 0), 1), touch_age(line, (0,), (0, 1), 0), never_share(line, (0,), (0, 0), 2)]
+[0, 0, None, True]
+'''
+
 INTERFACE = {
     "strokeonce.books": ("first_ages",),
     "strokeonce.pens": ("word_at", "drawing", "drawn_twice"),
     "strokeonce.ages": ("strokes_in", "turns_at", "area_at", "end_at", "stroke"),
     "strokeonce.windows": ("box", "window", "strokes_at"),
     "strokeonce.evens": ("is_steady", "multiple"),
+    "strokeonce.webs": ("web", "never_twice", "never_meets", "twice_age", "meeting_age", "shows_never_twice"),
+    "strokeonce.finds": ("first_twice", "first_meeting"),
+    "strokeonce.counts": ("twice_pairs", "meeting_pairs"),
+    "strokeonce.sides": ("share_age", "touch_age", "never_share"),
 }
 
 
@@ -68,6 +101,18 @@ class Examples(unittest.TestCase):
 
     def test_evens(self):
         self.check(EVENS, 2)
+
+    def test_webs(self):
+        self.check(WEBS, 4)
+
+    def test_finds(self):
+        self.check(FINDS, 3)
+
+    def test_counts(self):
+        self.check(COUNTS, 3)
+
+    def test_sides(self):
+        self.check(SIDES, 3)
 
 
 class Names(unittest.TestCase):
