@@ -10,6 +10,23 @@ PLANT = (((0, "[", "+", 0, "]", 0),), (0,))
 LINE = (((0, 0),), (0,))
 FIVE = (((0, "+", 0, "-", 0, "-", 0, "+", 0),), (0,))
 FARTHEST = 10 ** 400
+SQUARE = (((0, 0),), (0, "+", 0, "+", 0, "+", 0))
+THREE = (((0, "+", 1, "-"), ("+", 2, "-", 0), (1, "+", 0, "-")), (0, "+", 2))
+SHORT = (((0, "+", 0, "-", 0),), (0,))
+BRANCHED = (((0, "[", "-", 0, "]", 0),), ("+", 0, "[", 0, "]"))
+# The pair (7, 0, 0, 0, 1) comes from as far away as can be: as far as the farness and the reach together.
+BACK = (((0, 0, 0, "+", "+", 1, "+", "+"),) * 2, (0, 0, 0, 0, 0, "+", "+", 0))
+SAMPLES = (DRAGON, FIVE, LEVY, LINE, PLANT, SQUARE, THREE, SHORT, BRANCHED, BACK)
+
+# Not steady; not even; even with (0, 0), (1, 0), (0, 1).
+UNEVEN = (
+    (((0, "+", 0),), (0,)), (((0, 0), (1,)), (0, 1)), (((0, "+", "+", 0, "+", "+"),), (0,)),
+    (((0,),), (0,)), ((("+", 0, "-"),), (0,)), ((("[", 0, "]"),), (0,)),
+    (((0, 0), (1, 0, "-")), (0, "[", 1, "]")),
+)
+
+# A book with a web of more than 20000 pairs.
+WIDE = (((0,) + ("[",) + (0,) * 25 + ("]", "+", 0, "-"), (1, "+", 0, "-")), (0, 1))
 
 # Each is a value of a kind that may be passed for any argument, and no book.
 OTHER_VALUES = (
@@ -231,3 +248,18 @@ def long_books():
                 words.append(tuple([source.randrange(many) if part == 0 else part for part in word]))
         books.append((tuple(words), words[0]))
     return books
+
+
+def broad_book():
+    """A book of 8 letters and words of 40 parts, for times."""
+    source = random.Random(3)
+    parts = (0, 1, 2, 3, 4, 5, 6, 7, 0, 1, 2, 3, "+", "-", "+", "[")
+    words = []
+    for _ in range(8):
+        word = [source.choice(parts) for _ in range(30)]
+        words.append(tuple(word + ["]"] * word.count("[") + [0] * (10 - word.count("["))))
+    return (tuple(words), words[0])
+
+
+STRAIGHT = (tuple([tuple([(letter + index) % 8 for index in range(40)]) for letter in range(8)]),
+            tuple(range(8)) * 5)

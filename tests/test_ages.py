@@ -4,8 +4,8 @@ import random
 import time
 import unittest
 
-from samples import (DRAGON, LEVY, LINE, PLANT, drawable, end, plain_strokes, plain_walk, plain_word,
-                     random_books, trunk, turned)
+from samples import (DRAGON, LEVY, LINE, PLANT, STRAIGHT, broad_book, drawable, end, plain_strokes, plain_walk,
+                     plain_word, random_books, trunk, turned)
 from strokeonce.ages import area_at, end_at, stroke, strokes_in, turns_at
 from strokeonce.books import first_ages
 from strokeonce.errors import BadNumber
@@ -24,21 +24,6 @@ def still(*word):
 
 def plain_area(strokes):
     return sum([first[0] * end(first)[1] - end(first)[0] * first[1] for first in strokes])
-
-
-def broad_book():
-    """A book of 8 letters and words of 40 parts, for times."""
-    source = random.Random(3)
-    parts = (0, 1, 2, 3, 4, 5, 6, 7, 0, 1, 2, 3, "+", "-", "+", "[")
-    words = []
-    for _ in range(8):
-        word = [source.choice(parts) for _ in range(30)]
-        words.append(tuple(word + ["]"] * word.count("[") + [0] * (10 - word.count("["))))
-    return (tuple(words), words[0])
-
-
-STRAIGHT = (tuple([tuple([(letter + index) % 8 for index in range(40)]) for letter in range(8)]),
-            tuple(range(8)) * 5)
 
 
 class SmallAges(unittest.TestCase):

@@ -3,11 +3,10 @@
 import time
 import unittest
 
-from samples import DRAGON, FIVE, LEVY, LINE, PLANT, drawable, end, even_books, long_books, sides
+from samples import (DRAGON, FIVE, LEVY, LINE, PLANT, SAMPLES, UNEVEN, WIDE, drawable, end, even_books, long_books, sides)
 from strokeonce.counts import meeting_pairs, twice_pairs
 from strokeonce.errors import BadNumber, NotEven, TooMany
 from strokeonce.webs import twice_age
-from test_webs import SAMPLES, UNEVEN, WIDE
 
 SOON = 20
 CALLS = (twice_pairs, meeting_pairs)

@@ -3,12 +3,11 @@
 import time
 import unittest
 
-from samples import (DRAGON, FIVE, LEVY, LINE, PLANT, drawable, end, even_books, long_books, sides)
+from samples import (DRAGON, FIVE, LEVY, LINE, PLANT, SAMPLES, UNEVEN, WIDE, drawable, end, even_books, long_books, sides)
 from strokeonce.ages import stroke, strokes_in
 from strokeonce.errors import NotEven, TooMany
 from strokeonce.finds import first_meeting, first_twice
 from strokeonce.webs import meeting_age, twice_age
-from test_webs import SAMPLES, UNEVEN, WIDE
 
 SOON = 10
 

@@ -5,12 +5,11 @@ import time
 import unittest
 from unittest import mock
 
-from samples import (DRAGON, FARTHEST, FIVE, LEVY, LINE, OTHER_VALUES, PLANT, end, even_books, long_books,
-                     moved, near_pairs, plain_farness, plain_multiple, plain_pair, plain_strokes, plain_word,
-                     sides, times)
+from samples import (DRAGON, FARTHEST, FIVE, LEVY, LINE, OTHER_VALUES, PLANT, UNEVEN, WIDE, end, even_books, long_books,
+                     moved, near_pairs, plain_farness, plain_multiple, plain_pair, plain_strokes,
+                     plain_word, sides, times)
 from strokeonce.errors import BadNumber, BadPlace, BadWord, NotEven, TooMany
 from strokeonce.sides import never_share, share_age, touch_age
-from test_webs import UNEVEN, WIDE
 
 SOON = 10
 CALLS = (share_age, touch_age, never_share)

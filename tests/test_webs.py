@@ -5,31 +5,17 @@ import time
 import unittest
 from unittest import mock
 
-from samples import (DRAGON, FIVE, LEVY, LINE, OTHER_VALUES, PLANT, book_farness, drawable, end, even_books,
-                     long_books, moved, near_pairs, plain_multiple, plain_pair, plain_strokes, sides, times)
+from samples import (DRAGON, FIVE, LEVY, LINE, OTHER_VALUES, PLANT, SAMPLES, SHORT, SQUARE, THREE, UNEVEN, WIDE,
+                     book_farness, drawable, end, even_books, long_books, moved, near_pairs,
+                     plain_multiple, plain_pair, plain_strokes, sides, times)
 from strokeonce.books import first_ages
 from strokeonce.errors import NotEven, TooMany
 from strokeonce.webs import (meeting_age, never_meets, never_twice, shows_never_twice, twice_age, web)
 
 SOON = 10
-SQUARE = (((0, 0),), (0, "+", 0, "+", 0, "+", 0))
-THREE = (((0, "+", 1, "-"), ("+", 2, "-", 0), (1, "+", 0, "-")), (0, "+", 2))
-SHORT = (((0, "+", 0, "-", 0),), (0,))
-BRANCHED = (((0, "[", "-", 0, "]", 0),), ("+", 0, "[", 0, "]"))
-# The pair (7, 0, 0, 0, 1) comes from as far away as can be: as far as the farness and the reach together.
-BACK = (((0, 0, 0, "+", "+", 1, "+", "+"),) * 2, (0, 0, 0, 0, 0, "+", "+", 0))
-SAMPLES = (DRAGON, FIVE, LEVY, LINE, PLANT, SQUARE, THREE, SHORT, BRANCHED, BACK)
-
-# Not steady; not even; even with (0, 0), (1, 0), (0, 1).
-UNEVEN = (
-    (((0, "+", 0),), (0,)), (((0, 0), (1,)), (0, 1)), (((0, "+", "+", 0, "+", "+"),), (0,)),
-    (((0,),), (0,)), ((("+", 0, "-"),), (0,)), ((("[", 0, "]"),), (0,)),
-    (((0, 0), (1, 0, "-")), (0, "[", 1, "]")),
-)
 
 # A word that goes far round to end beside where it begins.
 ROUND = (((0,) * 5 + ("+", 0, "+") + (0,) * 4 + ("+", "+"),), (0,))
-WIDE = (((0,) + ("[",) + (0,) * 25 + ("]", "+", 0, "-"), (1, "+", 0, "-")), (0, 1))
 
 # All of these answer from the book alone.
 TAKING_A_BOOK = (web, never_twice, twice_age, never_meets, meeting_age)

@@ -4,12 +4,11 @@ import random
 import time
 import unittest
 
-from samples import DRAGON, FARTHEST, LEVY, LINE, OTHER_VALUES, PLANT, drawable, end, random_books
+from samples import (DRAGON, FARTHEST, LEVY, LINE, OTHER_VALUES, PLANT, STRAIGHT, broad_book, drawable, end, random_books)
 from strokeonce.ages import end_at, strokes_in, stroke
 from strokeonce.books import first_ages
 from strokeonce.errors import BadNumber, BadPlace, TooMany
 from strokeonce.windows import box, strokes_at, window
-from test_ages import STRAIGHT, broad_book
 
 SOON = 10
 EVERYWHERE = ((-FARTHEST, -FARTHEST), (FARTHEST, FARTHEST))
