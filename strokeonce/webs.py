@@ -63,12 +63,21 @@ def has_all_grown(growth, held):
     return True
 
 
-def shows_never_twice(book, value):
-    """Whether a value shows, without the web, that no stroke is ever drawn twice."""
-    growth = growth_of(book)
+def shows(growth, start, value):
+    """Whether a value has all that shows, without the web, that no stroke is ever drawn twice."""
     if not are_ascending_pairs(growth, value) or any([draws_same(pair) for pair in value]):
         return False
     held = {pair: True for pair in value}
-    drawings = [draw(book[1])] + list(growth.drawn.values())
+    drawings = [draw(start)] + list(growth.drawn.values())
     begun = [pair for strokes in drawings for pair in growth.near_within(strokes)]
     return all([pair in held for pair in begun]) and has_all_grown(growth, held)
+
+
+def shows_never_twice(book, value):
+    """Whether a value shows that no stroke is ever drawn twice."""
+    if shows(growth_of(book), book[1], value):
+        return True
+    # A value that shows it holds the whole web, which then is none too great.
+    # Whatever else the value is, a web that is too great is told.
+    web_of(book)
+    return False

@@ -9,7 +9,7 @@ from samples import (DRAGON, FIVE, LEVY, LINE, OTHER_VALUES, PLANT, SAMPLES, SHO
                      book_farness, drawable, end, even_books, long_books, moved, near_pairs,
                      plain_multiple, plain_pair, plain_strokes, sides, times)
 from strokeonce.books import first_ages
-from strokeonce.errors import NotEven, TooMany
+from strokeonce.errors import BadBook, NotEven, TooMany
 from strokeonce.webs import (meeting_age, never_meets, never_twice, shows_never_twice, twice_age, web)
 
 SOON = 10
@@ -351,9 +351,12 @@ class Shows(unittest.TestCase):
             self.assertIs(shows_never_twice(book, tuple(sorted(pairs[:many]))), expected)
         self.assertIs(shows_never_twice(book, ((5, 0, 0, 1, 0),) * 10 ** 6), False)
 
-    def test_a_web_of_too_many_pairs_needs_no_web(self):
-        for value in ((), ((1, 0, 0, 0, 0),), None):
-            self.assertIs(shows_never_twice(WIDE, value), False)
+    def test_a_web_of_too_many_pairs_whatever_the_value(self):
+        for value in OTHER_VALUES + (((1, 0, 0, 0, 0),), ((0, 0, 0, 0, 0),), [(1, 0, 0, 0, 0)],
+                                     ((1, 0, 0, 0, 0),) * 20001):
+            with self.assertRaises(TooMany) as caught:
+                shows_never_twice(WIDE, value)
+            self.assertEqual(caught.exception.most, 20000)
 
 
 class Uneven(unittest.TestCase):
@@ -366,6 +369,13 @@ class Uneven(unittest.TestCase):
             for value in (None, (), ((1, 0, 0, 0, 0),)):
                 with self.assertRaises(NotEven):
                     shows_never_twice(book, value)
+
+    def test_ahead_of_too_many_pairs(self):
+        # The words of WIDE, and one more letter that goes another way.
+        words, start = WIDE
+        for letter, error in (((2,), NotEven), ((2, "-"), NotEven), ((), BadBook)):
+            with self.assertRaises(error):
+                shows_never_twice((words + (letter,), start + (2,)), ())
 
     def test_a_letter_that_never_comes_does_not_matter(self):
         self.assertIs(never_twice((((0, 0), (1, "+")), (0,))), True)
@@ -390,8 +400,9 @@ class TooManyPairs(unittest.TestCase):
             many = len(web(book))
             with mock.patch("strokeonce.spinning.MOST_PAIRS", many):
                 self.assertEqual(len(web(book)), many)
+                self.assertIs(shows_never_twice(book, ()), False)
             with mock.patch("strokeonce.spinning.MOST_PAIRS", many - 1):
-                for call in TAKING_A_BOOK:
+                for call in TAKING_A_BOOK + (lambda book: shows_never_twice(book, ()),):
                     with self.assertRaises(TooMany) as caught:
                         call(book)
                     self.assertEqual(caught.exception.most, many - 1)
