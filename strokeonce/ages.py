@@ -1,8 +1,7 @@
 """What a drawing comes to at ages at which it could never be drawn."""
 
 from strokeonce.books import coming_letters
-from strokeonce.checks import check_book_and_age, is_integer
-from strokeonce.errors import BadNumber
+from strokeonce.checks import check_book_and_age, check_number
 from strokeonce.growth import ends_by_age, strokes_by_age, strokes_of
 from strokeonce.paths import STROKE, lay, rotate
 from strokeonce.pens import count_letters, next_counts
@@ -106,8 +105,7 @@ def stroke(book, age, number):
     words, start = book
     letters = coming_letters(words, start)
     strokes = strokes_by_age(words, letters, age)
-    if not is_integer(number) or not 0 <= number < strokes_of(start, strokes[age]):
-        raise BadNumber("a number must be that of one of the strokes")
+    check_number(number, 0, strokes_of(start, strokes[age]) - 1)
     ends = ends_by_age(words, letters, age)
     word = start
     pen = (0, 0, 0)

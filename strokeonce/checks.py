@@ -54,19 +54,18 @@ def check_book(value):
         raise BadBook(None)
 
 
+def check_number(value, least, most):
+    if not is_integer(value) or not least <= value <= most:
+        raise BadNumber("a number must be an integer within its limits")
+
+
 def check_age(value, most=MOST_AGE):
-    if not is_integer(value) or not 0 <= value <= most:
-        raise BadNumber("an age must be an integer from 0 to its limit")
+    check_number(value, 0, most)
 
 
 def check_book_and_age(book, age, most=MOST_AGE):
     check_book(book)
     check_age(age, most)
-
-
-def check_heading(value):
-    if not is_integer(value) or not 0 <= value <= 3:
-        raise BadNumber("a heading must be an integer from 0 to 3")
 
 
 def check_word(value, many):

@@ -1,6 +1,6 @@
 """Whether two drawings beside each other, at whatever age, draw or come to the same."""
 
-from strokeonce.checks import check_book, check_heading, check_place, check_word
+from strokeonce.checks import check_book, check_number, check_place, check_word
 from strokeonce.pairs import Growth, draws_same, touches
 from strokeonce.paths import lay_strokes
 from strokeonce.pens import draw
@@ -13,7 +13,7 @@ def web_between(book, word, place, heading):
     words, start = book
     check_word(word, len(words))
     check_place(place)
-    check_heading(heading)
+    check_number(heading, 0, 3)
     growth = Growth(words, start + word)
     beside, _ = lay_strokes(word, (*place, heading))
     web = Web(growth)

@@ -4,8 +4,9 @@ import copy
 import unittest
 
 from samples import FARTHEST, LEVY, LINE, OTHER_VALUES
-from strokeonce import ages, books, counts, evens, finds, pens, sides, webs, windows
-from strokeonce.errors import BadBook, BadNumber, BadPlace, BadWord, NotEven, StrokeError
+from strokeonce import (ages, books, counts, evens, finds, notation, pens, sides, sums, variants, webs, windows)
+from strokeonce.errors import (BadBook, BadLine, BadNumber, BadPlace, BadWord, Branching, NotEven, NotSteady, NotText,
+                               StrokeError)
 
 # The arguments of each function. Behind an age its limit stands.
 CALLS = {
@@ -36,10 +37,20 @@ CALLS = {
     sides.share_age: ("book", "word", "place", "heading"),
     sides.touch_age: ("book", "word", "place", "heading"),
     sides.never_share: ("book", "word", "place", "heading"),
+    sums.strokes_modulo: ("book", "age 10 ** 40", "modulus"),
+    sums.end_modulo: ("book", "age 10 ** 40", "modulus"),
+    sums.first_unlike_count: ("book", "book"),
+    sums.first_unlike_end: ("book", "book"),
+    variants.mirrored: ("book",),
+    variants.backward: ("book",),
+    variants.sped: ("book", "speed"),
+    notation.write_book: ("book",),
+    notation.read_book: ("text",),
 }
 
 # Those that are for even books alone.
 FOR_EVEN_BOOKS = tuple([call for call in CALLS if call.__module__[11:] in ("webs", "finds", "counts", "sides")])
+FOR_STEADY_BOOKS = (sums.end_modulo, sums.first_unlike_end)
 UNEVEN = (((0, "+", 0),), (0,))
 
 NO_NUMBERS = (-1, -10 ** 5000, 10 ** 5000, True, False, None, "", "0", "1", (), (0,), [], [0], {}, {0: 0}, ((0,), (0,)))
@@ -54,16 +65,22 @@ NO_WORDS = tuple([value for value in OTHER_VALUES if value != (0,)]) + (
     (9,), (-1,), (True,), (0, False), (0, None), (0, "a"), (0, "["), ("]", 0, "["), (0, "]"), ("+",), ("[", "]"),
     (0,) * 41, [0], (0, (0,)), (0, [0]), (0, {}), (10 ** 5000,), "0")
 
+NO_TEXTS = tuple([value for value in OTHER_VALUES if not isinstance(value, str)]) + (LEVY, ("start a", "a aa"), ["a"])
+
 # For each kind of argument right values, wrong ones, and the error for these.
 KINDS = {
     "book": ((LINE, (((0, 0), (1,)), (0, "+", 0))), OTHER_VALUES + ((((0,),), ()), (((0, "["),), (0,))), BadBook),
     "age 1000": ((0, 2), NO_NUMBERS + (1001,), BadNumber),
     "age 400": ((0, 2), NO_NUMBERS + (401, 1000), BadNumber),
     "age 300": ((0, 2, 300), NO_NUMBERS + (301, 400), BadNumber),
+    "age 10 ** 40": ((0, 2, 10 ** 40), NO_NUMBERS + (10 ** 40 + 1,), BadNumber),
+    "modulus": ((2, 10 ** 18), NO_NUMBERS + (0, 1, 10 ** 18 + 1), BadNumber),
+    "speed": ((1, 2, 3, 4), NO_NUMBERS + (0, 5), BadNumber),
     "number": ((0,), NO_NUMBERS, BadNumber),
     "heading": ((0, 1, 2, 3), NO_NUMBERS + (4, 5), BadNumber),
     "word": (((0,), ("[", "-", 0, "]", 0)), NO_WORDS, BadWord),
     "value": (OTHER_VALUES, (), None),
+    "text": (("start a\na aa",), NO_TEXTS, NotText),
     "place": (((0, 0), (FARTHEST, -FARTHEST)), NO_PLACES, BadPlace),
 }
 
@@ -107,22 +124,35 @@ class WrongValues(unittest.TestCase):
                     if KINDS[kind][1]:
                         self.expect(call, arguments, KINDS[kind][2])
 
+    def expect_behind_all_arguments(self, call, book, error):
+        kinds = CALLS[call]
+        self.expect(call, [book] + right_values(call)[1:], error)
+        for index in range(1, len(kinds)):
+            _, values, other = KINDS[kinds[index]]
+            for value in values:
+                arguments = [book] + right_values(call)[1:]
+                arguments[index] = value
+                self.expect(call, arguments, other)
+
     def test_not_even_comes_behind_all_arguments(self):
         for call in FOR_EVEN_BOOKS:
-            kinds = CALLS[call]
-            self.expect(call, [UNEVEN] + right_values(call)[1:], NotEven)
-            for index in range(1, len(kinds)):
-                _, values, error = KINDS[kinds[index]]
-                for value in values:
-                    arguments = [UNEVEN] + right_values(call)[1:]
-                    arguments[index] = value
-                    self.expect(call, arguments, error)
+            self.expect_behind_all_arguments(call, UNEVEN, NotEven)
+
+    def test_not_steady_comes_behind_all_arguments(self):
+        for call in FOR_STEADY_BOOKS:
+            self.expect_behind_all_arguments(call, UNEVEN, NotSteady)
 
     def test_values_of_all_kinds_for_all_arguments(self):
         for call, kinds in CALLS.items():
+            error = KINDS[kinds[0]][2]
             for first in OTHER_VALUES:
                 for second in OTHER_VALUES:
-                    self.expect(call, [first] + [second] * (len(kinds) - 1), BadBook)
+                    wrong = BadLine if error is NotText and isinstance(first, str) else error
+                    self.expect(call, [first] + [second] * (len(kinds) - 1), wrong)
+
+    def test_branching_comes_behind_the_book(self):
+        self.expect(variants.backward, [(((0, "[", "]"),), (0,))], Branching)
+        self.expect(variants.backward, [(((0, "[", "]"), ()), (0,))], BadBook)
 
 
 class NotModified(unittest.TestCase):

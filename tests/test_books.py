@@ -7,11 +7,14 @@ from samples import OTHER_VALUES, chain, plain_word, random_books
 from strokeonce.ages import area_at, end_at, stroke, strokes_in, turns_at
 from strokeonce.books import first_ages
 from strokeonce.counts import meeting_pairs, twice_pairs
-from strokeonce.errors import BadBook, NotEven
+from strokeonce.errors import BadBook, Branching, NotEven, NotSteady
 from strokeonce.evens import is_steady, multiple
 from strokeonce.finds import first_meeting, first_twice
+from strokeonce.notation import write_book
 from strokeonce.pens import drawing, drawn_twice, word_at
 from strokeonce.sides import never_share, share_age, touch_age
+from strokeonce.sums import end_modulo, first_unlike_count, first_unlike_end, strokes_modulo
+from strokeonce.variants import backward, mirrored, sped
 from strokeonce.webs import (meeting_age, never_meets, never_twice, shows_never_twice, twice_age, web)
 from strokeonce.windows import box, strokes_at, window
 
@@ -44,6 +47,16 @@ TAKING_A_BOOK = (
     lambda book: share_age(book, (0,), (0, 0), 0),
     lambda book: touch_age(book, (0,), (0, 0), 0),
     lambda book: never_share(book, (0,), (0, 0), 0),
+    lambda book: strokes_modulo(book, 0, 2),
+    lambda book: end_modulo(book, 0, 2),
+    lambda book: first_unlike_count(book, (((0,),), (0,))),
+    lambda book: first_unlike_count((((0,),), (0,)), book),
+    lambda book: first_unlike_end(book, (((0,),), (0,))),
+    lambda book: first_unlike_end((((0,),), (0,)), book),
+    mirrored,
+    backward,
+    lambda book: sped(book, 1),
+    write_book,
 )
 
 # No words of two letters, for the reason that is told.
@@ -96,7 +109,7 @@ def letter_of(call, value):
         call(value)
     except BadBook as error:
         return [error.letter]
-    except NotEven:
+    except (NotEven, NotSteady, Branching):
         pass
     return []
 

@@ -4,6 +4,9 @@ import doctest
 import importlib
 import unittest
 
+from strokeonce.errors import BadLine
+from strokeonce.notation import read_book
+
 BOOKS = '''
 >>> from strokeonce.books import first_ages
 >>> first_ages((((0, "+", 1), (1,), (2,)), (0,)))
@@ -66,6 +69,26 @@ SIDES = '''
 [0, 0, None, True]
 '''
 
+SUMS = '''
+>>> from strokeonce.sums import end_modulo, first_unlike_count, first_unlike_end, strokes_modulo
+>>> book = (((0, "+", 0, "-"),), (0,))
+>>> [strokes_modulo(book, 10 ** 30, 1000), end_modulo(book, 10 ** 30, 7), first_unlike_count(book, (((0, 0),), (0,))), first_unlike_end(book, (((0, 0),), (0,)))]
+[376, (4, 0), None, 1]
+'''
+
+VARIANTS = '''
+>>> from strokeonce.variants import backward, mirrored, sped
+>>> book = (((0, "+", 0, "-"),), (0,))
+>>> [mirrored(book), backward(book), sped(book, 2)]
+[(((0, '-', 0, '+'),), (0,)), ((('+', 0, '-', 0),), (0,)), (((0, '+', 0, '-', '+', 0, '+', 0, '-', '-'),), (0,))]
+'''
+
+NOTATION = '''
+>>> from strokeonce.notation import read_book, write_book
+>>> [read_book("start a\\na a+b-\\nb +a-b"), write_book((((0, 0),), (0, "+", 0)))]
+[(((0, '+', 1, '-'), ('+', 0, '-', 1)), (0,)), 'start a+a\\na aa']
+'''
+
 INTERFACE = {
     "strokeonce.books": ("first_ages",),
     "strokeonce.pens": ("word_at", "drawing", "drawn_twice"),
@@ -76,6 +99,9 @@ INTERFACE = {
     "strokeonce.finds": ("first_twice", "first_meeting"),
     "strokeonce.counts": ("twice_pairs", "meeting_pairs"),
     "strokeonce.sides": ("share_age", "touch_age", "never_share"),
+    "strokeonce.sums": ("strokes_modulo", "end_modulo", "first_unlike_count", "first_unlike_end"),
+    "strokeonce.variants": ("mirrored", "backward", "sped"),
+    "strokeonce.notation": ("write_book", "read_book"),
 }
 
 
@@ -113,6 +139,18 @@ class Examples(unittest.TestCase):
 
     def test_sides(self):
         self.check(SIDES, 3)
+
+    def test_sums(self):
+        self.check(SUMS, 3)
+
+    def test_variants(self):
+        self.check(VARIANTS, 3)
+
+    def test_notation(self):
+        self.check(NOTATION, 2)
+        with self.assertRaises(BadLine) as caught:
+            read_book("start a\na ab")
+        self.assertEqual((caught.exception.line, caught.exception.word), (2, 2))
 
 
 class Names(unittest.TestCase):
