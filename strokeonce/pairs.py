@@ -51,6 +51,11 @@ def comes_again(pair):
     return second_ends(pair)[1] in ((0, 0), (1, 0))
 
 
+def comes_to_end(pair):
+    """Whether the second stroke begins or ends where the first one ends."""
+    return (1, 0) in second_ends(pair)
+
+
 def touches(pair):
     """Whether the strokes have a place in common."""
     return any([place in ((0, 0), (1, 0)) for place in second_ends(pair)])
@@ -112,8 +117,8 @@ class Growth:
         x, y = self.grown_place(pair)
         return lay_strokes(self.words[pair[4]], (x, y, pair[3]))[0]
 
-    def halves(self, pair):
-        """The half-grown pairs for each stroke that the first one becomes.
+    def numbered_halves(self, pair):
+        """The half-grown pairs for each stroke that the first one becomes, each behind the stroke's number.
 
         Those are left out that are too far away to become near pairs.
         """
@@ -122,12 +127,16 @@ class Growth:
         seen = [rotate(grown_x, grown_y, -heading % 4) for heading in range(4)]
         most = self.half_farness * self.half_farness
         found = []
-        for right, up, heading, own in self.firsts[letter]:
+        for number, (right, up, heading, own) in enumerate(self.firsts[letter]):
             half_x = seen[heading][0] - right
             half_y = seen[heading][1] - up
             if half_x * half_x + half_y * half_y <= most:
-                found.append((half_x, half_y, own, (turn - heading) % 4, other))
+                found.append((number, (half_x, half_y, own, (turn - heading) % 4, other)))
         return found
+
+    def halves(self, pair):
+        """The half-grown pairs by themselves."""
+        return [half for _, half in self.numbered_halves(pair)]
 
     def wholes(self, half):
         """The near pairs that a half-grown pair becomes, one for each stroke."""

@@ -22,7 +22,7 @@ def box(book, age):
 
 
 class Seeker:
-    """Looks for the strokes of an age that begin or end in a window.
+    """Looks for the strokes of ages, to the told one, that begin or end in a window.
 
     A part of the drawing is an age still to go, the number of its first stroke,
     and where its letter's path begins: (x, y, heading, letter).
@@ -30,7 +30,6 @@ class Seeker:
 
     def __init__(self, book, age):
         self.words, self.start = book
-        self.age = age
         letters = coming_letters(self.words, self.start)
         self.strokes = strokes_by_age(self.words, letters, age)
         self.ends = ends_by_age(self.words, letters, age)
@@ -51,12 +50,12 @@ class Seeker:
         left, low, right, high = move_box(self.boxes[level][letter], x, y, heading)
         return left <= end[0] and right >= corner[0] and low <= end[1] and high >= corner[1]
 
-    def seek(self, corner, end):
-        """(number, x, y, heading, letter) for the strokes in the window, in order."""
+    def seek(self, age, corner, end):
+        """(number, x, y, heading, letter) for the strokes of an age in a window, in order."""
         found = []
         if corner[0] > end[0] or corner[1] > end[1]:
             return found
-        waiting = self.parts(self.start, self.age, 0, (0, 0, 0))
+        waiting = self.parts(self.start, age, 0, (0, 0, 0))
         looks = 0
         while waiting:
             level, number, path = waiting.pop()
@@ -84,7 +83,7 @@ def window(book, age, corner, end):
     check_book_and_age(book, age, MOST_AGE_SEEN)
     check_place(corner)
     check_place(end)
-    found = Seeker(book, age).seek(corner, end)
+    found = Seeker(book, age).seek(age, corner, end)
     check_many(found)
     return tuple(found)
 
@@ -93,7 +92,7 @@ def strokes_at(book, age, place):
     """The numbers of the strokes that begin at a place, ascending."""
     check_book_and_age(book, age, MOST_AGE_SEEN)
     check_place(place)
-    rows = Seeker(book, age).seek(place, place)
+    rows = Seeker(book, age).seek(age, place, place)
     found = [row[0] for row in rows if row[1:3] == place]
     check_many(found)
     return tuple(found)

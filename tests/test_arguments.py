@@ -4,9 +4,15 @@ import copy
 import unittest
 
 from samples import FARTHEST, LEVY, LINE, OTHER_VALUES
-from strokeonce import (ages, books, counts, evens, finds, notation, pens, sides, sums, variants, webs, windows)
+from strokeonce import (ages, books, census, counts, crowds, desk, evens, finds, notation, pens, pictures, sides, sums,
+                        variants, webs, windows)
 from strokeonce.errors import (BadBook, BadLine, BadNumber, BadPlace, BadWord, Branching, NotEven, NotSteady, NotText,
                                StrokeError)
+
+
+def ask(book, line):
+    return desk.Desk(book).ask(line)
+
 
 # The arguments of each function. Behind an age its limit stands.
 CALLS = {
@@ -46,10 +52,23 @@ CALLS = {
     variants.sped: ("book", "speed"),
     notation.write_book: ("book",),
     notation.read_book: ("text",),
+    census.census: ("strokes",),
+    desk.Desk: ("book",),
+    ask: ("book", "line"),
+    desk.run: ("text", "lines"),
+    pictures.picture: ("book", "age 400", "near place", "near place"),
+    pictures.touching: ("book", "age 400", "number"),
+    pictures.first_coming: ("book", "place", "most"),
+    crowds.kinds_that_come: ("book",),
+    crowds.most_drawn: ("book",),
+    crowds.most_ending: ("book",),
+    crowds.different_strokes: ("book", "age 300"),
+    crowds.different_places: ("book", "age 300"),
 }
 
 # Those that are for even books alone.
-FOR_EVEN_BOOKS = tuple([call for call in CALLS if call.__module__[11:] in ("webs", "finds", "counts", "sides")])
+EVEN_MODULES = tuple([f"strokeonce.{name}" for name in ("webs", "finds", "counts", "sides", "crowds")])
+FOR_EVEN_BOOKS = tuple([call for call in CALLS if call.__module__ in EVEN_MODULES])
 FOR_STEADY_BOOKS = (sums.end_modulo, sums.first_unlike_end)
 UNEVEN = (((0, "+", 0),), (0,))
 
@@ -67,6 +86,8 @@ NO_WORDS = tuple([value for value in OTHER_VALUES if value != (0,)]) + (
 
 NO_TEXTS = tuple([value for value in OTHER_VALUES if not isinstance(value, str)]) + (LEVY, ("start a", "a aa"), ["a"])
 
+NO_LINES = tuple([value for value in OTHER_VALUES if value != ()]) + (["book"], ("book", None), ("book",) * 1001)
+
 # For each kind of argument right values, wrong ones, and the error for these.
 KINDS = {
     "book": ((LINE, (((0, 0), (1,)), (0, "+", 0))), OTHER_VALUES + ((((0,),), ()), (((0, "["),), (0,))), BadBook),
@@ -77,10 +98,15 @@ KINDS = {
     "modulus": ((2, 10 ** 18), NO_NUMBERS + (0, 1, 10 ** 18 + 1), BadNumber),
     "speed": ((1, 2, 3, 4), NO_NUMBERS + (0, 5), BadNumber),
     "number": ((0,), NO_NUMBERS, BadNumber),
+    "most": ((0, 2, 400), NO_NUMBERS + (401, 1000), BadNumber),
+    "strokes": ((2, 3), NO_NUMBERS + (0, 1, 6), BadNumber),
+    "line": (("book", "strokes 3"), NO_TEXTS, NotText),
+    "lines": (((), ("book",), ("nothing", "end 1")), NO_LINES, NotText),
     "heading": ((0, 1, 2, 3), NO_NUMBERS + (4, 5), BadNumber),
     "word": (((0,), ("[", "-", 0, "]", 0)), NO_WORDS, BadWord),
     "value": (OTHER_VALUES, (), None),
     "text": (("start a\na aa",), NO_TEXTS, NotText),
+    "near place": (((0, 0), (7, -9), (-59, 59)), NO_PLACES, BadPlace),
     "place": (((0, 0), (FARTHEST, -FARTHEST)), NO_PLACES, BadPlace),
 }
 
@@ -172,6 +198,8 @@ class NotModified(unittest.TestCase):
 
     def test_asked_again_they_answer_the_same(self):
         for call in CALLS:
+            if call is desk.Desk:
+                continue
             arguments = right_values(call)
             self.assertEqual(call(*arguments), call(*arguments))
 

@@ -7,11 +7,14 @@ from samples import OTHER_VALUES, chain, plain_word, random_books
 from strokeonce.ages import area_at, end_at, stroke, strokes_in, turns_at
 from strokeonce.books import first_ages
 from strokeonce.counts import meeting_pairs, twice_pairs
+from strokeonce.crowds import different_places, different_strokes, kinds_that_come, most_drawn, most_ending
+from strokeonce.desk import Desk
 from strokeonce.errors import BadBook, Branching, NotEven, NotSteady
 from strokeonce.evens import is_steady, multiple
 from strokeonce.finds import first_meeting, first_twice
 from strokeonce.notation import write_book
 from strokeonce.pens import drawing, drawn_twice, word_at
+from strokeonce.pictures import first_coming, picture, touching
 from strokeonce.sides import never_share, share_age, touch_age
 from strokeonce.sums import end_modulo, first_unlike_count, first_unlike_end, strokes_modulo
 from strokeonce.variants import backward, mirrored, sped
@@ -57,6 +60,15 @@ TAKING_A_BOOK = (
     backward,
     lambda book: sped(book, 1),
     write_book,
+    Desk,
+    lambda book: picture(book, 0, (0, 0), (0, 0)),
+    lambda book: touching(book, 0, 0),
+    lambda book: first_coming(book, (0, 0), 0),
+    kinds_that_come,
+    most_drawn,
+    most_ending,
+    lambda book: different_strokes(book, 0),
+    lambda book: different_places(book, 0),
 )
 
 # No words of two letters, for the reason that is told.

@@ -89,6 +89,32 @@ NOTATION = '''
 [(((0, '+', 1, '-'), ('+', 0, '-', 1)), (0,)), 'start a+a\\na aa']
 '''
 
+CENSUS = '''
+>>> from strokeonce.census import census
+>>> [row[:2] for row in census(2)]
+[('aa', (2, 0)), ('a+a-', (1, 1)), ('a-a+', (1, -1)), ('+aa-', (0, 2)), ('+a-a', (1, 1)), ('-aa+', (0, -2)), ('-a+a', (1, -1))]
+'''
+
+DESK = '''
+>>> from strokeonce.desk import run
+>>> run("start a\\na a+a-", ("strokes 10", "end 2", "multiple", "window 1 5 5 6 6", "end"))
+('1024', '0 2 0', '1 1', 'none', 'refused')
+'''
+
+PICTURES = '''
+>>> from strokeonce.pictures import first_coming, picture, touching
+>>> plant = (((0, "[", "+", 0, "]", 0),), (0,))
+>>> [picture(plant, 1, (0, 0), (2, 1)), touching(plant, 1, 0), first_coming(plant, (4, 0), 9)]
+['. o .\\n  |  \\no-o-o', (1, 2), 2]
+'''
+
+CROWDS = '''
+>>> from strokeonce.crowds import different_places, different_strokes, most_drawn, most_ending
+>>> line = (((0, 0),), (0, "+", "+", 0))
+>>> [different_strokes(line, 5), different_places(line, 5), most_drawn(line), most_ending((((0, 0),), (0, "+", 0, "+", 0, "+", 0)))]
+[32, 33, (2, 0), (1, 0)]
+'''
+
 INTERFACE = {
     "strokeonce.books": ("first_ages",),
     "strokeonce.pens": ("word_at", "drawing", "drawn_twice"),
@@ -101,7 +127,11 @@ INTERFACE = {
     "strokeonce.sides": ("share_age", "touch_age", "never_share"),
     "strokeonce.sums": ("strokes_modulo", "end_modulo", "first_unlike_count", "first_unlike_end"),
     "strokeonce.variants": ("mirrored", "backward", "sped"),
+    "strokeonce.census": ("census",),
     "strokeonce.notation": ("write_book", "read_book"),
+    "strokeonce.desk": ("Desk", "run"),
+    "strokeonce.pictures": ("picture", "touching", "first_coming"),
+    "strokeonce.crowds": ("kinds_that_come", "different_strokes", "different_places", "most_drawn", "most_ending"),
 }
 
 
@@ -152,6 +182,18 @@ class Examples(unittest.TestCase):
             read_book("start a\na ab")
         self.assertEqual((caught.exception.line, caught.exception.word), (2, 2))
 
+    def test_census(self):
+        self.check(CENSUS, 2)
+
+    def test_desk(self):
+        self.check(DESK, 2)
+
+    def test_pictures(self):
+        self.check(PICTURES, 3)
+
+    def test_crowds(self):
+        self.check(CROWDS, 3)
+
 
 class Names(unittest.TestCase):
 
@@ -159,8 +201,11 @@ class Names(unittest.TestCase):
         for module, names in INTERFACE.items():
             for name in names:
                 with self.subTest(module=module, name=name):
-                    function = getattr(importlib.import_module(module), name)
-                    self.assertEqual((function.__module__, function.__name__), (module, name))
+                    value = getattr(importlib.import_module(module), name)
+                    self.assertEqual((value.__module__, value.__name__), (module, name))
+
+    def test_the_desk_has_its_method_itself(self):
+        self.assertIn("ask", vars(importlib.import_module("strokeonce.desk").Desk))
 
 
 if __name__ == "__main__":
