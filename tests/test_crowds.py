@@ -203,7 +203,7 @@ class Different(unittest.TestCase):
 
     def test_more_strokes(self):
         for book in BOOKS + even_books(20, 5, 5):
-            for age, strokes in enumerate(drawable(book, 4000)):
+            for age, strokes in enumerate(drawable(book, 1500)):
                 if not isinstance(answer(different_strokes, book, age), list):
                     self.assertEqual(different_strokes(book, age), plain_strokes_of(strokes))
                     self.assertEqual(different_places(book, age), plain_places_of(strokes))
