@@ -4,7 +4,8 @@ from strokeonce.checks import check_number
 from strokeonce.notation import text_of_word
 from strokeonce.pairs import LEAST_NORM, comes_again, draws_same
 from strokeonce.paths import lay_strokes
-from strokeonce.spinning import web_of
+from strokeonce.spinning import first_ages, seeds_of
+from strokeonce.variants import turned_over
 
 LEAST_STROKES = 2
 MOST_STROKES = 5
@@ -30,18 +31,28 @@ def words_of(many):
     return [word for begun in beginnings(many) for word in turned_back(begun)]
 
 
-def row_of(word, place):
-    """The row of a word that ends at a place."""
-    web = web_of(((word,), (0,)))
-    return text_of_word(word), place, web.first_age(draws_same), web.first_age(comes_again)
+def ages_of(word, known):
+    """(twice_age, meeting_age) of a word's book; known has those of words, and gets the ones that are found.
+
+    A drawing that is turned over, or begun at its end, draws the same strokes
+    twice and comes to the same places twice: so do up to four words.
+    """
+    if word not in known:
+        twice, meets = first_ages(seeds_of(((word,), (0,))), (draws_same, comes_again))
+        over = turned_over(word)
+        for other in (word, over, word[::-1], over[::-1]):
+            known[other] = twice, meets
+    return known[word]
 
 
 def census(many):
     """(text, multiple, twice_age, meeting_age) for all words of so many strokes whose turns come to nought."""
     check_number(many, LEAST_STROKES, MOST_STROKES)
     rows = []
+    known = {}
     for word in words_of(many):
         x, y, _ = lay_strokes(word)[1]
         if x * x + y * y >= LEAST_NORM:
-            rows.append(row_of(word, (x, y)))
+            twice, meets = ages_of(word, known)
+            rows.append((text_of_word(word), (x, y), twice, meets))
     return tuple(rows)

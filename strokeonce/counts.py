@@ -2,22 +2,13 @@
 
 from strokeonce.checks import check_book_and_age
 from strokeonce.growth import strokes_of
+from strokeonce.nearness import middle_nearness
 from strokeonce.pairs import draws_same, ends_together
 from strokeonce.pens import draw
-from strokeonce.spinning import web_of
+from strokeonce.sources import Sources
+from strokeonce.spinning import check_many, seeds_of
 
 MOST_AGE_COUNTED = 300
-
-
-def rows_of_web(web):
-    """What each pair becomes, half-grown, and what each of these does, in two tables of rows."""
-    halves = {pair: web.growth.halves(pair) for pair in web.ages}
-    wholes = {}
-    for row in halves.values():
-        for half in row:
-            if half not in wholes:
-                wholes[half] = web.growth.wholes(half)
-    return halves, wholes
 
 
 def turned_round(rows):
@@ -51,7 +42,7 @@ def leading_to(found, halves, wholes):
 def numbered(rows, keys, members):
     """The rows of some keys with each member as its number among the told ones, others left out."""
     numbers = {member: number for number, member in enumerate(members)}
-    return [[numbers[member] for member in rows[key] if member in numbers] for key in keys]
+    return [[numbers[member] for member in rows.get(key, ()) if member in numbers] for key in keys]
 
 
 def sums_over(rows, values):
@@ -66,17 +57,17 @@ class Tally:
     """
 
     def __init__(self, web, wanted):
-        self.growth = web.growth
-        halves, wholes = rows_of_web(web)
-        pairs, half_grown = leading_to([pair for pair in web.ages if wanted(pair)], halves, wholes)
-        self.half_rows = numbered(halves, pairs, half_grown)
-        self.whole_rows = numbered(wholes, half_grown, pairs)
+        self.growth = web.seeds.growth
+        self.nearness = web.nearness
+        pairs, half_grown = leading_to([pair for pair in web.ages if wanted(pair)], web.half_rows, web.whole_rows)
+        self.half_rows = numbered(web.half_rows, pairs, half_grown)
+        self.whole_rows = numbered(web.whole_rows, half_grown, pairs)
         self.pairs = pairs
         self.wanted = [1 if wanted(pair) else 0 for pair in pairs]
 
     def rows_within(self, drawings):
         """For each of some drawings its near pairs, numbered."""
-        near = {number: self.growth.near_within(strokes) for number, strokes in enumerate(drawings)}
+        near = {number: self.nearness.near_within(strokes) for number, strokes in enumerate(drawings)}
         return numbered(near, list(near), self.pairs)
 
     def total(self, word, age):
@@ -98,7 +89,12 @@ class Tally:
 
 def count_pairs(book, age, wanted):
     check_book_and_age(book, age, MOST_AGE_COUNTED)
-    return Tally(web_of(book), wanted).total(book[1], age)
+    seeds = seeds_of(book)
+    check_many(seeds)
+    web = Sources(seeds, middle_nearness(seeds.growth))
+    # A pair that comes first at the told age needs not grow any more.
+    web.spin(age)
+    return Tally(web, wanted).total(book[1], age)
 
 
 def twice_pairs(book, age):

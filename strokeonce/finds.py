@@ -6,9 +6,11 @@ the word of the letter that it comes from.
 """
 
 from strokeonce.books import ages_of_letters
+from strokeonce.nearness import middle_nearness
 from strokeonce.pairs import comes_again, draws_same, pair_of
 from strokeonce.pens import count_letters, draw, next_counts
-from strokeonce.spinning import web_of
+from strokeonce.sources import Sources
+from strokeonce.spinning import first_age, seeds_of
 
 
 def letters_of(word):
@@ -63,15 +65,15 @@ def indexes_between(growth, pair, grown):
     return found[0]
 
 
-def ways_of_pair(book, web, pair):
-    """The ways of two strokes that are a pair of the web, at its first age."""
+def ways_of_pair(book, growth, sources, pair):
+    """The ways of two strokes that are a pair, at its first age; sources tell where pairs come from."""
     words, start = book
     steps = []
-    source = web.sources[pair]
+    source = sources[pair]
     while isinstance(source, tuple):
-        steps.append(indexes_between(web.growth, source, pair))
+        steps.append(indexes_between(growth, source, pair))
         pair = source
-        source = web.sources[pair]
+        source = sources[pair]
     if source is None:
         way = []
         steps.append(indexes_within(draw(start), pair))
@@ -84,12 +86,14 @@ def ways_of_pair(book, web, pair):
 
 def first_pair_of(book, wanted):
     """(age, i, j) for the first age at which two strokes are such a pair, None for never."""
-    web = web_of(book)
-    found = sorted([(age, pair) for pair, age in web.ages.items() if wanted(pair)])
-    if not found:
+    seeds = seeds_of(book)
+    age = first_age(seeds, wanted)
+    if age is None:
         return None
-    age, pair = found[0]
-    first, second = ways_of_pair(book, web, pair)
+    web = Sources(seeds, middle_nearness(seeds.growth))
+    web.spin(age)
+    pair = min([pair for pair in web.ages if wanted(pair)])
+    first, second = ways_of_pair(book, seeds.growth, web.sources, pair)
     return age, number_of(book, first), number_of(book, second)
 
 

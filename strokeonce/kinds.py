@@ -7,7 +7,8 @@ they are found; a kind has its sights by their numbers, ascending.
 """
 
 from strokeonce.errors import TooMany
-from strokeonce.pairs import pair_of
+from strokeonce.nearness import farness_nearness
+from strokeonce.steps import Steps
 
 MOST_NEAR = 400
 
@@ -20,6 +21,8 @@ class Crowd:
 
     def __init__(self, growth):
         self.growth = growth
+        self.nearness = farness_nearness(growth)
+        self.steps = Steps(self.nearness)
         self.sights = []
         self.kinds = []
         self._sight_numbers = {}
@@ -45,15 +48,16 @@ class Crowd:
             self.kinds.append(kind)
         return self._kind_numbers[kind]
 
-    def sights_of(self, strokes, number):
-        """The sights that one of some strokes has of the other ones."""
-        pairs = [pair_of(strokes[number], stroke) for stroke in strokes]
-        return [self.number_of_sight(pair, other > number) for other, pair in enumerate(pairs)
-                if other != number and self.growth.is_near(pair[0], pair[1])]
+    def sights_of(self, rows, number):
+        """The sights that one of some strokes, all of them with their anchors, has of the other ones."""
+        found = [(pair, False) for pair in self.nearness.near_to(rows[number], rows[:number])]
+        found += [(pair, True) for pair in self.nearness.near_to(rows[number], rows[number + 1:])]
+        return [self.number_of_sight(pair, later) for pair, later in found]
 
     def sights_within(self, strokes):
         """For each stroke of a drawing its sights."""
-        return [self.sights_of(strokes, number) for number in range(len(strokes))]
+        rows = self.nearness.anchored(strokes)
+        return [self.sights_of(rows, number) for number in range(len(rows))]
 
     def kinds_of(self, strokes, rows):
         """The kinds of strokes that have the sights of some rows, in order."""
@@ -67,8 +71,8 @@ class Crowd:
         """What a sight becomes: for strokes that its first one becomes, by their numbers, the sights that they have."""
         if sight not in self._grown:
             pair, later = self.sights[sight]
-            halves = self.growth.numbered_halves(pair)
-            self._grown[sight] = [(number, [self.number_of_sight(whole, later) for whole in self.growth.wholes(half)])
+            halves = self.steps.numbered_halves(pair)
+            self._grown[sight] = [(number, [self.number_of_sight(whole, later) for whole in self.steps.wholes(half)])
                                   for number, half in halves]
         return self._grown[sight]
 

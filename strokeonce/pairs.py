@@ -1,10 +1,6 @@
-"""Pairs of strokes that are near, and the pairs that they become.
+"""Pairs of strokes, and what their strokes become.
 
-A pair is (x, y, letter, turn, other), as seen from its first stroke. Growing
-goes in two steps, as that takes far fewer looks than all strokes of the one
-word beside all of the other: first the first stroke becomes its letter's word,
-which gives half-grown pairs, then the second one does. A half-grown pair has
-the form of a pair, but its x and y tell where the second stroke's path begins.
+A pair is (x, y, letter, turn, other), as seen from its first stroke.
 """
 
 from math import isqrt
@@ -81,12 +77,15 @@ def seen_by_itself(stroke):
     return seen_x, seen_y, heading, letter
 
 
-class Growth:
-    """How near pairs become near pairs, for the letters that come from some parts.
+def turned(stroke, quarters):
+    """A stroke turned about (0, 0)."""
+    x, y, heading, letter = stroke
+    turned_x, turned_y = rotate(x, y, quarters)
+    return turned_x, turned_y, (heading + quarters) % 4, letter
 
-    Two strokes that are farther away from one another than the farness become
-    none that are near, so that no far pair needs to be known.
-    """
+
+class Growth:
+    """What strokes become, for the letters that come from some parts of an even book."""
 
     def __init__(self, words, parts):
         self.words = words
@@ -95,17 +94,15 @@ class Growth:
         if found is None or found[0] * found[0] + found[1] * found[1] < LEAST_NORM:
             raise NotEven("the words must go the same way on, farther than one step")
         self.multiple = found
+        self.norm = found[0] * found[0] + found[1] * found[1]
         self.drawn = {letter: draw(words[letter]) for letter in self.letters}
-        root = root_of_reach(list(self.drawn.values()))
-        self.farness = farness_for(found[0] * found[0] + found[1] * found[1], root)
-        self.half_farness = self.farness + root
+        self.root = root_of_reach(list(self.drawn.values()))
+        self.farness = farness_for(self.norm, self.root)
+        # What the first stroke of a pair becomes, by its letter, and the second one, by its letter and its turn.
         self.firsts = {letter: [seen_by_itself(stroke) for stroke in self.drawn[letter]]
                        for letter in self.letters}
-        self.seconds = {(letter, turn): lay_strokes(words[letter], (0, 0, turn))[0]
+        self.seconds = {(letter, turn): [turned(stroke, turn) for stroke in self.drawn[letter]]
                         for letter in self.letters for turn in range(4)}
-
-    def is_near(self, x, y):
-        return x * x + y * y <= self.farness * self.farness
 
     def grown_place(self, pair):
         """Where the second stroke's path begins at the next age, the first one's at (0, 0)."""
@@ -117,48 +114,9 @@ class Growth:
         x, y = self.grown_place(pair)
         return lay_strokes(self.words[pair[4]], (x, y, pair[3]))[0]
 
-    def numbered_halves(self, pair):
-        """The half-grown pairs for each stroke that the first one becomes, each behind the stroke's number.
-
-        Those are left out that are too far away to become near pairs.
-        """
-        letter, turn, other = pair[2:]
-        grown_x, grown_y = self.grown_place(pair)
-        seen = [rotate(grown_x, grown_y, -heading % 4) for heading in range(4)]
-        most = self.half_farness * self.half_farness
-        found = []
-        for number, (right, up, heading, own) in enumerate(self.firsts[letter]):
-            half_x = seen[heading][0] - right
-            half_y = seen[heading][1] - up
-            if half_x * half_x + half_y * half_y <= most:
-                found.append((number, (half_x, half_y, own, (turn - heading) % 4, other)))
-        return found
-
-    def halves(self, pair):
-        """The half-grown pairs by themselves."""
-        return [half for _, half in self.numbered_halves(pair)]
-
-    def wholes(self, half):
-        """The near pairs that a half-grown pair becomes, one for each stroke."""
-        x, y, letter, turn, other = half
-        most = self.farness * self.farness
-        return [(x + right, y + up, letter, heading, own)
-                for right, up, heading, own in self.seconds[other, turn]
-                if (x + right) * (x + right) + (y + up) * (y + up) <= most]
-
-    def near_within(self, strokes):
-        """The near pairs of the strokes of one drawing."""
-        return [pair for number, first in enumerate(strokes)
-                for pair in self.near_between([first], strokes[number + 1:])]
-
-    def near_between(self, firsts, seconds):
-        """The near pairs of a stroke of one drawing and a stroke of another one."""
-        pairs = [pair_of(first, second) for first in firsts for second in seconds]
-        return [pair for pair in pairs if self.is_near(pair[0], pair[1])]
-
 
 def growth_of(book):
-    """How the near pairs of an even book grow."""
+    """How the strokes of an even book grow."""
     check_book(book)
     words, start = book
     return Growth(words, start)

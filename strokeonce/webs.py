@@ -1,19 +1,32 @@
 """The near pairs that the strokes of all ages have, and what they tell of all ages."""
 
-from strokeonce.checks import is_integer
-from strokeonce.pairs import comes_again, draws_same, growth_of
-from strokeonce.pens import draw
-from strokeonce.spinning import MOST_PAIRS, web_of
+from strokeonce.grids import Field, grid_of, without
+from strokeonce.nearness import farness_nearness
+from strokeonce.pairs import comes_again, draws_same
+from strokeonce.spinning import MOST_PAIRS, check_many, first_age, seeds_of, spin_all
 
 
 def web(book):
     """(x, y, letter, turn, other, age) for all near pairs, with their first ages, ascending."""
-    return tuple(sorted([(*pair, age) for pair, age in web_of(book).ages.items()]))
+    field, found = spin_all(seeds_of(book))
+    ages = {}
+    for age, pairs in found:
+        for key, indexes in pairs.items():
+            ages.setdefault(key, []).append((age, indexes))
+    places = field.places()
+    # What stands behind x and y in the rows, for each place: put there in order, as sorting all rows takes longer.
+    rests = [[] for _ in places]
+    for key in sorted(ages):
+        for age, indexes in ages[key]:
+            rest = (*key, age)
+            for index in indexes:
+                rests[index].append(rest)
+    return tuple([(x, y, *rest) for (x, y), row in zip(places, rests) for rest in row])
 
 
 def twice_age(book):
     """The first age at which two strokes draw the same, None for never."""
-    return web_of(book).first_age(draws_same)
+    return first_age(seeds_of(book), draws_same)
 
 
 def never_twice(book):
@@ -23,7 +36,7 @@ def never_twice(book):
 
 def meeting_age(book):
     """The first age at which the pen comes to a place twice, None for never."""
-    return web_of(book).first_age(comes_again)
+    return first_age(seeds_of(book), comes_again)
 
 
 def never_meets(book):
@@ -31,53 +44,52 @@ def never_meets(book):
     return meeting_age(book) is None
 
 
-def is_near_pair(growth, value):
-    """Whether a value is a near pair of letters that come."""
-    if not isinstance(value, tuple) or len(value) != 5:
-        return False
-    if not all([is_integer(number) for number in value]):
-        return False
-    x, y, letter, turn, other = value
-    known = letter in growth.letters and other in growth.letters
-    return known and 0 <= turn <= 3 and growth.is_near(x, y)
-
-
-def are_ascending_pairs(growth, value):
-    """Whether a value is an ascending tuple of near pairs that is not too long."""
+def are_ascending_fives(value):
+    """Whether a value is an ascending tuple, not too long, of tuples of five integers."""
     if not isinstance(value, tuple) or len(value) > MOST_PAIRS:
         return False
-    if not all([is_near_pair(growth, pair) for pair in value]):
+    if not all([isinstance(row, tuple) and len(row) == 5 for row in value]):
         return False
-    return all([pair < after for pair, after in zip(value, value[1:])])
+    # True and False are no integers here, as everywhere in the package.
+    if not all([type(number) is int for row in value for number in row]):
+        return False
+    return all([row < after for row, after in zip(value, value[1:])])
 
 
-def has_all_grown(growth, held):
-    """Whether with each pair those that it becomes are held."""
-    done = set()
-    for pair in held:
-        for half in growth.halves(pair):
-            if half not in done:
-                done.add(half)
-                if not all([whole in held for whole in growth.wholes(half)]):
-                    return False
-    return True
+def are_near_pairs(growth, value):
+    """Whether all fives of integers are near pairs of letters that come."""
+    far = growth.farness
+    letters = {letter: True for letter in growth.letters}
+    return all([letter in letters and 0 <= turn <= 3 and other in letters and x * x + y * y <= far * far
+                for x, y, letter, turn, other in value])
 
 
-def shows(growth, start, value):
+def shows(seeds, value):
     """Whether a value has all that shows, without the web, that no stroke is ever drawn twice."""
-    if not are_ascending_pairs(growth, value) or any([draws_same(pair) for pair in value]):
+    growth = seeds.growth
+    if not are_ascending_fives(value) or not are_near_pairs(growth, value):
         return False
-    held = {pair: True for pair in value}
-    drawings = [draw(start)] + list(growth.drawn.values())
-    begun = [pair for strokes in drawings for pair in growth.near_within(strokes)]
-    return all([pair in held for pair in begun]) and has_all_grown(growth, held)
+    nearness = farness_nearness(growth)
+    field = Field(nearness)
+    indexes = field.indexes_of(value)
+    held = {key: grid_of(row) for key, row in indexes.items()}
+    masks = field.masks(draws_same)
+    if any([grid & masks[key[1]] for key, grid in held.items()]):
+        return False
+    begun = seeds.pairs_at_0(nearness)
+    for strokes in growth.drawn.values():
+        begun.extend(nearness.near_within(strokes))
+    if without(field.grids_of(begun), held):
+        return False
+    return not without(field.grown(field.half_grown(indexes)), held)
 
 
 def shows_never_twice(book, value):
     """Whether a value shows that no stroke is ever drawn twice."""
-    if shows(growth_of(book), book[1], value):
+    seeds = seeds_of(book)
+    if shows(seeds, value):
         return True
     # A value that shows it holds the whole web, which then is none too great.
     # Whatever else the value is, a web that is too great is told.
-    web_of(book)
+    check_many(seeds)
     return False

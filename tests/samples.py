@@ -261,5 +261,12 @@ def broad_book():
     return (tuple(words), words[0])
 
 
+# Words that go far back or aside ahead of going their way.
+FAR_BACK = ((("+", "+") + (0,) * 10 + ("+", "+") + (0,) * 12,), (0,))
+FAR_ASIDE = (((0, "[", "-", 0, 0, 0, 0, 0, 0, 0, "]", 0), ("[", "+", 1, 1, 1, "]", 0, 1)), (0, "+", 1))
+
+# More than 20000 pairs may be near, but not so many are.
+MANY_LETTERS = (tuple([(letter, (letter + 1) % 8) for letter in range(8)]), (0, "+", 0))
+
 STRAIGHT = (tuple([tuple([(letter + index) % 8 for index in range(40)]) for letter in range(8)]),
             tuple(range(8)) * 5)
